@@ -1,10 +1,10 @@
 // Package machine: machines out of rewrite rules; runners: see DOC.md.
 package machine
 
-import "rewrite/api"
-
-// alphabet: the letters that texts are of, in their order.
-const alphabet = "abcd"
+import (
+	"rewrite/api"
+	"rewrite/letter"
+)
 
 // Machine: of rules, or of a text.
 type Machine struct {
@@ -16,11 +16,6 @@ type state struct {
 	end  string
 	said [api.Letters]string
 	next [api.Letters]int
-}
-
-// Compile: the machine of rules (P5 to P8).
-func Compile(s string, limit int) (*Machine, api.Refusal, api.Errno) {
-	return nil, api.Refusal{}, api.OK
 }
 
 // States: how many it has (P2).
@@ -61,7 +56,7 @@ func firstWords(states []state) []string {
 	for i := 0; i < len(words) && i < len(states); i++ {
 		for l, t := range states[i].next {
 			if t == len(words) {
-				words = append(words, words[i]+alphabet[l:l+1])
+				words = append(words, words[i]+letter.Texts[l:l+1])
 			}
 		}
 	}

@@ -98,6 +98,14 @@ func TestP1FirstErrorAndEmptyResults(t *testing.T) {
 	}
 }
 
+func TestP1FirstErrorOfRules(t *testing.T) {
+	big := great + great + great + great
+	checkRefused(t, big+great+"x\n", 0, api.ErrLimit, 0)
+	checkRefused(t, big+great+"x\n", 200, api.ErrLine, 6)
+	checkRefused(t, big+great, 200, api.ErrRules, 0)
+	checkRefused(t, big, 200, api.ErrBig, 0)
+}
+
 func TestP1NoneHangsOnAnother(t *testing.T) {
 	words := wordsTo(4)
 	var machines []*machine.Machine

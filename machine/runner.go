@@ -1,6 +1,9 @@
 package machine
 
-import "rewrite/api"
+import (
+	"rewrite/api"
+	"rewrite/letter"
+)
 
 // Runner: of a machine, on its way along a text.
 type Runner struct {
@@ -29,12 +32,12 @@ func (r *Runner) Feed(w string) (string, api.Errno) {
 	if r.isClosed() {
 		return "", api.ErrClosed
 	}
-	if !isWord(w) {
+	if !letter.IsWord(w) {
 		return "", api.ErrByte
 	}
 	var said []byte
 	for i := 0; i < len(w); i++ {
-		l := int(w[i] - alphabet[0])
+		l := letter.Number(w[i])
 		q := r.of.states[r.at]
 		said = append(said, q.said[l]...)
 		r.at = q.next[l]
@@ -76,12 +79,3 @@ func (r *Runner) hasMachine() bool { return r != nil && r.of != nil }
 
 // isClosed: a runner without a machine was never open.
 func (r *Runner) isClosed() bool { return !r.hasMachine() || r.closed }
-
-func isWord(w string) bool {
-	for i := 0; i < len(w); i++ {
-		if !isLetter(w[i]) {
-			return false
-		}
-	}
-	return true
-}

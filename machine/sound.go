@@ -1,5 +1,11 @@
 package machine
 
+import (
+	"rewrite/api"
+	"rewrite/classes"
+	"rewrite/letter"
+)
+
 // isSound: whether states are those of a machine as P2 asks for it.
 func isSound(states []state) bool {
 	// First, because the other two go from state to state by these numbers.
@@ -32,10 +38,7 @@ func isNumbered(states []state) bool {
 	return met == len(states)
 }
 
-// sayable: what may be said; a letter's place here is its bit in a set of beginnings.
-const sayable = "abcdABCD"
-
-// saysNothing: the bit of the empty word in a set of beginnings.
+// saysNothing: the bit of the empty word in a set of beginnings; a letter that may be said has one below by its place among them.
 const saysNothing = 256
 
 // isEarly: behind no state all that may be said begins with the same letter.
@@ -87,8 +90,8 @@ func beginning(w string) int {
 		return saysNothing
 	}
 	bit := 1
-	for i := 0; i < len(sayable); i++ {
-		if sayable[i] == w[0] {
+	for i := 0; i < len(letter.Said); i++ {
+		if letter.Said[i] == w[0] {
 			return bit
 		}
 		bit *= 2
@@ -99,63 +102,34 @@ func beginning(w string) int {
 // allDiffer: no two states say the same of every word.
 // Since nothing common is held back, two states say the same of every word just if they say the same at once, in the end and by each letter, and so do their next states; classes are split until that holds.
 func allDiffer(states []state) bool {
-	classes, count := classesBySaid(states)
-	for {
-		finer, finerCount := classesByNext(states, classes)
-		if finerCount == count {
-			return count == len(states)
-		}
-		classes = finer
-		count = finerCount
-	}
+	first := bySaid(states)
+	next := nextStates(states)
+	parts := classes.Refine(first, next, api.MaxStates)
+	return parts.Count == len(states)
 }
 
-// classesBySaid puts states together that say the same at once; it also gives the number of classes.
-func classesBySaid(states []state) ([]int, int) {
-	classes := make([]int, len(states))
-	count := 0
+// bySaid puts states together that say the same at once.
+func bySaid(states []state) classes.Classes {
+	c := classes.Classes{Of: make([]int, len(states))}
 	for i, q := range states {
-		classes[i] = count
+		c.Of[i] = c.Count
 		for j, p := range states[:i] {
 			if p.end == q.end && p.said == q.said {
-				classes[i] = classes[j]
+				c.Of[i] = c.Of[j]
 				break
 			}
 		}
-		if classes[i] == count {
-			count++
+		if c.Of[i] == c.Count {
+			c.Count++
 		}
 	}
-	return classes, count
+	return c
 }
 
-// classesByNext splits classes by the classes of the next states; it also gives the number of classes.
-func classesByNext(states []state, classes []int) ([]int, int) {
-	finer := make([]int, len(states))
-	count := 0
-	for i := range states {
-		finer[i] = count
-		for j := 0; j < i; j++ {
-			if areAlike(states, classes, i, j) {
-				finer[i] = finer[j]
-				break
-			}
-		}
-		if finer[i] == count {
-			count++
-		}
+func nextStates(states []state) [][api.Letters]int {
+	var next [][api.Letters]int
+	for _, q := range states {
+		next = append(next, q.next)
 	}
-	return finer, count
-}
-
-func areAlike(states []state, classes []int, i int, j int) bool {
-	if classes[i] != classes[j] {
-		return false
-	}
-	for l, t := range states[i].next {
-		if classes[t] != classes[states[j].next[l]] {
-			return false
-		}
-	}
-	return true
+	return next
 }

@@ -4,6 +4,7 @@ import (
 	"strconv"
 
 	"rewrite/api"
+	"rewrite/scan"
 )
 
 // Load: the machine that a text is (P2).
@@ -46,23 +47,16 @@ func appendWord(text []byte, w string) []byte {
 	return append(text, w...)
 }
 
-// reader: a place in a text; bad from the first byte on that does not fit.
-type reader struct {
-	text string
-	at   int
-	bad  bool
-}
-
 // readStates takes a text apart into lines; which states its numbers name is not looked at.
 func readStates(s string) ([]state, bool) {
-	r := reader{text: s}
+	r := scan.New(s)
 	var states []state
-	for r.at < len(s) {
+	for r.Left() > 0 {
 		if len(states) == api.MaxStates {
 			return nil, false
 		}
-		q := r.line()
-		if r.bad {
+		q := readState(&r)
+		if r.IsBad() {
 			return nil, false
 		}
 		states = append(states, q)
@@ -70,66 +64,42 @@ func readStates(s string) ([]state, bool) {
 	return states, len(states) > 0
 }
 
-func (r *reader) line() state {
+func readState(r *scan.Reader) state {
 	var q state
-	q.end = r.word()
+	q.end = readWord(r)
 	for l := 0; l < api.Letters; l++ {
-		r.sign(' ')
-		q.said[l] = r.word()
-		r.sign(':')
-		q.next[l] = r.number()
+		r.Take(' ')
+		q.said[l] = readWord(r)
+		r.Take(':')
+		q.next[l] = readNumber(r)
 	}
-	r.sign('\n')
+	r.Take('\n')
 	return q
 }
 
-func (r *reader) sign(c byte) {
-	if r.at >= len(r.text) || r.text[r.at] != c {
-		r.bad = true
-		return
-	}
-	r.at++
-}
-
-// word copies byte by byte, so that the machine does not keep the text that it is loaded from.
-func (r *reader) word() string {
-	if r.at < len(r.text) && r.text[r.at] == '-' {
-		r.at++
+func readWord(r *scan.Reader) string {
+	if r.Skip('-') {
 		return ""
 	}
-	var w []byte
-	for r.at < len(r.text) && isSayable(r.text[r.at]) {
-		w = append(w, r.text[r.at])
-		r.at++
+	w := r.Run(scan.Said)
+	if w == "" {
+		r.Fail()
 	}
-	if len(w) == 0 {
-		r.bad = true
-	}
-	return string(w)
+	return w
 }
 
-// number does not grow on beyond MaxStates, so that no run of digits is too long for an int.
-func (r *reader) number() int {
-	start := r.at
-	n := 0
-	for r.at < len(r.text) && isDigit(r.text[r.at]) {
-		if n <= api.MaxStates {
-			n = n*10 + int(r.text[r.at]-'0')
-		}
-		r.at++
-	}
-	digits := r.text[start:r.at]
+// readNumber does not grow on beyond MaxStates, so that no run of digits is too long for an int.
+func readNumber(r *scan.Reader) int {
+	digits := r.Run(scan.Digits)
 	if digits == "" {
-		r.bad = true
+		r.Fail()
 	}
 	if len(digits) > 1 && digits[0] == '0' {
-		r.bad = true
+		r.Fail()
+	}
+	n := 0
+	for i := 0; i < len(digits) && n <= api.MaxStates; i++ {
+		n = n*10 + int(digits[i]-'0')
 	}
 	return n
 }
-
-func isDigit(c byte) bool { return c >= '0' && c <= '9' }
-
-func isLetter(c byte) bool { return c >= 'a' && c <= 'd' }
-
-func isSayable(c byte) bool { return isLetter(c) || c >= 'A' && c <= 'D' }
