@@ -65,8 +65,9 @@ func TestClassesAndKinds(t *testing.T) {
 				break
 			}
 		}
-		if n := automaton.Kinds(all); n != c.kinds {
-			t.Errorf("%q has %d kinds, want %d", c.s, n, c.kinds)
+		kinds, ok := automaton.KindsOf(all)
+		if n := len(kinds.Ahead); !ok || n != c.kinds || len(kinds.Words) != n {
+			t.Errorf("%q has %d kinds, and %d words of them, want %d", c.s, n, len(kinds.Words), c.kinds)
 		}
 	}
 }
@@ -85,11 +86,11 @@ func TestMaxAutos(t *testing.T) {
 	}
 }
 
-func TestManyKindsAreNotCountedOn(t *testing.T) {
+func TestManyKinds(t *testing.T) {
 	for _, s := range []string{great + "bbbb>B/bb\n", "aaaa>B/...d\n", "a>B/...........d\n", great + "bbbb>B/bbbbbbbbbbbbbb\n"} {
 		all, _ := least(t, s)
-		if n := automaton.Kinds(all); n <= api.MaxKinds || n > api.MaxKinds+api.Letters {
-			t.Errorf("%q has %d kinds", s, n)
+		if kinds, ok := automaton.KindsOf(all); ok || kinds.Ahead != nil || kinds.Words != nil {
+			t.Errorf("%q has %d kinds", s, len(kinds.Ahead))
 		}
 	}
 }
@@ -123,6 +124,73 @@ func TestClassesOfWindows(t *testing.T) {
 		a, ok := automaton.Least(rules[0].Match)
 		if len(a.Next) != c.classes || len(a.Hit) != c.classes || ok != (c.classes > 0) {
 			t.Errorf("%q: %d classes, %v, want %d", c.context, len(a.Next), ok, c.classes)
+		}
+	}
+}
+
+func isHit(a automaton.Automaton, q int, w string) bool {
+	for i := range len(w) {
+		q = a.Next[q][w[i]-'a']
+	}
+	return a.Hit[q]
+}
+
+// kindOf: by letters laid ahead, from the last on.
+func kindOf(kinds automaton.Kinds, w string) int {
+	k := 0
+	for i := len(w) - 1; i >= 0; i-- {
+		k = kinds.Ahead[k][w[i]-'a']
+	}
+	return k
+}
+
+// words: all of at most n letters, the shorter first.
+func words(n int) []string {
+	all := []string{""}
+	from := 0
+	for range n {
+		to := len(all)
+		for _, w := range all[from:to] {
+			all = append(all, w+"a", w+"b", w+"c", w+"d")
+		}
+		from = to
+	}
+	return all
+}
+
+func TestKinds(t *testing.T) {
+	for _, s := range []string{"a>b\n", "ab>A/c*d\n", "a>B/.b\n", "a>B/b*c\nab>C\n", "a>B/[^abcd]\n", "aab>A/c\n"} {
+		all, _ := least(t, s)
+		kinds, ok := automaton.KindsOf(all)
+		if !ok {
+			t.Fatalf("%q has too many kinds", s)
+		}
+		shortest := map[int]string{}
+		for _, w := range words(5) {
+			k := kindOf(kinds, w)
+			for q := range all.Next {
+				if kinds.IsHit(k, q) != isHit(all, q, w) {
+					t.Errorf("of %q: %q, of kind %d, leads from %d to a hit: %v", s, w, k, q, isHit(all, q, w))
+				}
+			}
+			if _, ok := shortest[k]; !ok {
+				shortest[k] = w
+			}
+		}
+		for k, w := range kinds.Words {
+			if kindOf(kinds, w) != k || len(w) != len(shortest[k]) {
+				t.Errorf("of %q: the word of kind %d is %q", s, k, w)
+			}
+		}
+	}
+}
+
+func TestKindsThatAreNone(t *testing.T) {
+	all, _ := least(t, "a>b\n")
+	kinds, _ := automaton.KindsOf(all)
+	for _, n := range []int{-1 << 63, -1, 60, 1<<63 - 1} {
+		if kinds.IsHit(n, 0) || kinds.IsHit(0, n) {
+			t.Errorf("kind or state %d is a hit", n)
 		}
 	}
 }

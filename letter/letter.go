@@ -30,3 +30,12 @@ func Number(c byte) int {
 	}
 	return int(c - Texts[0])
 }
+
+// Common: with how many letters two words begin alike.
+func Common(v string, w string) int {
+	n := 0
+	for n < len(v) && n < len(w) && v[n] == w[n] {
+		n++
+	}
+	return n
+}

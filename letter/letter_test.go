@@ -35,3 +35,17 @@ func TestIsWord(t *testing.T) {
 		}
 	}
 }
+
+func TestCommon(t *testing.T) {
+	for _, c := range []struct {
+		v, w string
+		n    int
+	}{{"", "", 0}, {"a", "", 0}, {"a", "b", 0}, {"a", "A", 0}, {"a", "a", 1}, {"ab", "a", 1}, {"abc", "abd", 2}, {"abca", "bbca", 0}, {"AB", "ABCD", 2}} {
+		if n := letter.Common(c.v, c.w); n != c.n {
+			t.Errorf("Common(%q, %q) = %d, want %d", c.v, c.w, n, c.n)
+		}
+		if n := letter.Common(c.w, c.v); n != c.n {
+			t.Errorf("Common(%q, %q) = %d, want %d", c.w, c.v, n, c.n)
+		}
+	}
+}

@@ -2,8 +2,10 @@ package machine
 
 import (
 	"rewrite/api"
-	"rewrite/automaton"
+	"rewrite/early"
+	"rewrite/foresee"
 	"rewrite/rule"
+	"rewrite/twin"
 )
 
 // Compile: the machine of rules (P5 to P8).
@@ -15,24 +17,26 @@ func Compile(s string, limit int) (*Machine, api.Refusal, api.Errno) {
 	if e != api.OK {
 		return nil, api.Refusal{Line: line}, e
 	}
-	if areBig(rules) {
+	view, ok := foresee.New(rules)
+	if !ok {
 		return nil, api.Refusal{}, api.ErrBig
 	}
-	return nil, api.Refusal{}, api.OK
+	states, ok := early.States(view, limit)
+	if ok {
+		return fromStates(states), api.Refusal{}, api.OK
+	}
+	// Only where states are too many does it matter whether they are without end.
+	w, ok := twin.Find(view)
+	if ok {
+		return nil, api.Refusal{W: w}, api.ErrTwin
+	}
+	return nil, api.Refusal{}, api.ErrStates
 }
 
-// areBig: whether rules are of too many classes or kinds (P6).
-func areBig(rules []rule.Rule) bool {
-	var all automaton.Automaton
-	for _, r := range rules {
-		least, ok := automaton.Least(r.Match)
-		if !ok {
-			return true
-		}
-		all.Add(least)
+func fromStates(states []early.State) *Machine {
+	x := &Machine{}
+	for _, q := range states {
+		x.states = append(x.states, state{end: q.End, said: q.Said, next: q.Next})
 	}
-	if len(all.Next) > api.MaxAutos {
-		return true
-	}
-	return automaton.Kinds(all) > api.MaxKinds
+	return x
 }

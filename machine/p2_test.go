@@ -226,6 +226,7 @@ func TestP2OneByteChanged(t *testing.T) {
 }
 
 func TestP2ManySmallMachines(t *testing.T) {
+	t.Parallel()
 	words := wordsTo(6)
 	seed := uint32(1)
 	pick := func(n int) int {

@@ -163,6 +163,7 @@ func TestP5AllShortTexts(t *testing.T) {
 }
 
 func TestP5AllShortContexts(t *testing.T) {
+	t.Parallel()
 	for _, context := range stringsTo(5, "ab.[^]()|*") {
 		checkForm(t, "a>b/"+context+"\n")
 	}

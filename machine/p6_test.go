@@ -106,10 +106,10 @@ func step(prog *syntax.Prog, set []int, r rune) []int {
 	return next
 }
 
-// kindsOf: for each kind the states of all walkers, one byte each, from which its words lead to a hit; and whether there are at most so many.
-func kindsOf(walkers []walker, most int) ([]string, bool) {
-	var empty []byte
+// joined: the states of all walkers in one row; for each the next ones, and a + if it is a hit.
+func joined(walkers []walker) ([][4]int, []byte) {
 	var next [][4]int
+	var hit []byte
 	for _, w := range walkers {
 		before := len(next)
 		for i, to := range w.next {
@@ -117,9 +117,15 @@ func kindsOf(walkers []walker, most int) ([]string, bool) {
 				to[l] += before
 			}
 			next = append(next, to)
-			empty = append(empty, map[bool]byte{false: '-', true: '+'}[w.hit[i]])
+			hit = append(hit, map[bool]byte{false: '-', true: '+'}[w.hit[i]])
 		}
 	}
+	return next, hit
+}
+
+// kindsOf: for each kind the states of all walkers, one byte each, from which its words lead to a hit; and whether there are at most so many.
+func kindsOf(walkers []walker, most int) ([]string, bool) {
+	next, empty := joined(walkers)
 	kinds := []string{string(empty)}
 	seen := map[string]bool{kinds[0]: true}
 	for i := 0; i < len(kinds); i++ {
@@ -272,6 +278,7 @@ func anyRules(rng *rand.Rand) string {
 }
 
 func TestP6AnyRules(t *testing.T) {
+	t.Parallel()
 	rng := rand.New(rand.NewSource(6))
 	small, manyClasses, manyKinds, edge := 0, 0, 0, 0
 	for range 8000 {
