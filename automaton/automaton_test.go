@@ -188,7 +188,7 @@ func TestKinds(t *testing.T) {
 func TestKindsThatAreNone(t *testing.T) {
 	all, _ := least(t, "a>b\n")
 	kinds, _ := automaton.KindsOf(all)
-	for _, n := range []int{-1 << 63, -1, 60, 1<<63 - 1} {
+	for _, n := range []int{-1 << 63, -1, len(kinds.Ahead), 60, 1<<63 - 1} {
 		if kinds.IsHit(n, 0) || kinds.IsHit(0, n) {
 			t.Errorf("kind or state %d is a hit", n)
 		}

@@ -73,15 +73,17 @@ func TestBig(t *testing.T) {
 
 func TestStepsOfWhatIsNone(t *testing.T) {
 	v := view(t, "ab>B/c\n")
-	for _, n := range []int{-1 << 63, -1, 24, 1<<63 - 1} {
+	for _, n := range []int{-1 << 63, -1, len(v.Kinds.Ahead), 24, 1<<63 - 1} {
 		if said, toCome := v.Step(n, 0, 0); said != "" || toCome != 0 {
 			t.Errorf("Step of kind %d = %q, %d", n, said, toCome)
 		}
-		if said, toCome := v.Step(0, 0, n); said != "" || toCome != 0 {
-			t.Errorf("Step by letter %d = %q, %d", n, said, toCome)
-		}
 		if said, _ := v.Run("ab", n, 0); said != "" {
 			t.Errorf("Run ahead of kind %d = %q", n, said)
+		}
+	}
+	for _, l := range []int{-1 << 63, -1, 4, 1<<63 - 1} {
+		if said, toCome := v.Step(0, 0, l); said != "" || toCome != 0 {
+			t.Errorf("Step by letter %d = %q, %d", l, said, toCome)
 		}
 	}
 	if said, toCome := (foresee.View{}).Run("ab", 0, 0); said != "" || toCome != 0 {

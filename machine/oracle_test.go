@@ -392,3 +392,13 @@ func contextOf(rng *rand.Rand, parts []string, depth int, bytes int) string {
 	}
 	return context
 }
+
+// anyAmounts: rules of which almost nothing is said but how often letters come, so that what is said for two kinds parts by its length alone.
+func anyAmounts(rng *rand.Rand) string {
+	contexts := []string{"", "[abc]*d", "[bc]*d", "b*d", "(ab)*d", "(abc)*d", "(bb)*d", "(bbb)*d", "(b|cc)*d", "[abc]*dd", ".*dd", "b", "[bc]", "bb", "c*d"}
+	s := ""
+	for range 2 + rng.Intn(3) {
+		s += anyWord(rng, "abc", 1, 1+rng.Intn(3)) + ">" + anyWord(rng, "a", 0, 3) + "/" + contexts[rng.Intn(len(contexts))] + "\n"
+	}
+	return s
+}

@@ -46,6 +46,8 @@ var drifting = []string{
 	"a>abB/b*c\n", "a>aaaa/a*b\n", "a>/a*b\n", "aa>a/a*b\n", "ab>ba/(ab)*c\n", "a>aa/a*b\na>a/a*c\n", "aa>AB/a*b\na>A\n",
 	// What parts is not that a rule is taken but which one, or how long its FROM is.
 	"ab>C/b*c\na>D\n", "ab>AB/b*c\nab>BA\n", "aa>A/a*b\naaa>A/a*c\n", "aaaa>/(aaaaaaa)*b\n", "a>A/a*b\na>B\n", "aaa>A/a*c\naa>B/a*b\n",
+	// One way round drifts, and one beside it does not; and both say the same letter alone.
+	"b>a\nc>aa/[bc]*d\nc>a\n", "c>a\nb>aa/[bc]*d\nb>a\n", "b>a\nc>aa/[bc]*d\nc>\n", "b>a\nc>a/[bc]*d\nc>\n", "b>aa/[bc]*d\nb>a\nc>a/[bc]*d\nc>aa\n",
 	// What drifts is led to by other rules.
 	"ba>B\na>A/c*d\n", "abaa>a/bbaadabaabab*a\nab>\na>\n", "adda>/aada.*cbaaad*c\na>/()*\nbcb>/\n",
 	// Rounds of many letters.
@@ -145,8 +147,11 @@ func TestP7AnyRules(t *testing.T) {
 	t.Parallel()
 	rng := rand.New(rand.NewSource(77))
 	count := map[api.Errno]int{}
-	for range 3000 {
+	for i := range 4000 {
 		s := anyCompiled(rng, true)
+		if i%4 == 0 {
+			s = anyAmounts(rng)
+		}
 		x, r, e := machine.Compile(s, 200)
 		count[e]++
 		if e == api.ErrBig {

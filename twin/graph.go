@@ -11,13 +11,15 @@ type place struct {
 	toCome int
 }
 
-// pair: where two stand behind the same word, of which each was told another kind of what follows (or the same).
+// pair: where two stand behind the same word, each of whom was told another kind of what follows.
 type pair [2]place
 
 // graph: all pairs that words lead to, numbered as they are met, and the steps between them.
 type graph struct {
 	view  foresee.View
 	pairs []pair
+	// starts: so many pairs come first that the empty word leads to.
+	starts int
 	// numbers: for each pair that there may be its number and 1 more, or 0.
 	numbers []int
 	// steps: those from one pair on stand side by side, in the order of the pairs; first has where they begin, and the end of all.
@@ -38,15 +40,17 @@ type step struct {
 func (s step) isSilent() bool { return s.said[0] == "" && s.said[1] == "" }
 
 // newGraph begins with every two kinds, since every kind may follow the empty word. Which of two is named first makes no difference.
+// Two who are told the same kind are not looked at: they say the same, and when they are told different ones as many letters are to come for both; behind those they are as at the beginning.
 func newGraph(v foresee.View) graph {
 	kinds := len(v.Kinds.Ahead)
 	places := kinds * api.MaxSide
 	g := graph{view: v, numbers: make([]int, places*places)}
 	for x := 0; x < kinds; x++ {
-		for y := x; y < kinds; y++ {
+		for y := x + 1; y < kinds; y++ {
 			g.number(pair{{kind: x}, {kind: y}})
 		}
 	}
+	g.starts = len(g.pairs)
 	for i := 0; i < len(g.pairs); i++ {
 		g.first = append(g.first, len(g.steps))
 		for l := 0; l < api.Letters; l++ {

@@ -41,10 +41,8 @@ type finding struct {
 
 func (s *search) begin() {
 	s.last = make([]int, len(s.graph.pairs))
-	for i, p := range s.graph.pairs {
-		if p[0].toCome == 0 && p[1].toCome == 0 && p[0].kind <= p[1].kind {
-			s.add(finding{pair: i, from: -1})
-		}
+	for i := 0; i < s.graph.starts; i++ {
+		s.add(finding{pair: i, from: -1})
 	}
 }
 

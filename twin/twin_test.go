@@ -118,3 +118,93 @@ func TestSettle(t *testing.T) {
 		}
 	}
 }
+
+// small: a way to a circle of two pairs, and one pair from which nothing leads on.
+func small() graph {
+	return graph{
+		pairs:  make([]pair, 4),
+		steps:  []step{{from: 0, to: 1, l: 0}, {from: 1, to: 2, l: 1}, {from: 2, to: 1, l: 2}},
+		first:  []int{0, 1, 2, 3, 3},
+		onward: []int{0, 1, 2, -1},
+	}
+}
+
+func TestCircle(t *testing.T) {
+	g := small()
+	for _, c := range []struct {
+		from      int
+		on, round string
+		end       int
+	}{{0, "a", "bc", 1}, {1, "", "bc", 1}, {2, "", "cb", 2}, {3, "", "", 3}} {
+		if on, round, end := g.circle(c.from); on != c.on || round != c.round || end != c.end {
+			t.Errorf("circle(%d) = %q, %q, %d", c.from, on, round, end)
+		}
+	}
+}
+
+func TestAddAndWord(t *testing.T) {
+	s := search{graph: small(), last: make([]int, 4)}
+	for _, c := range []struct {
+		f     finding
+		count int
+	}{
+		{finding{pair: 0, from: -1}, 1},
+		{finding{pair: 0, from: -1}, 1},
+		{finding{pair: 3, from: -1}, 1},
+		{finding{pair: 1, from: 0, l: 0}, 2},
+		{finding{pair: 2, from: 1, l: 1}, 3},
+		{finding{pair: 1, from: 2, l: 2, held: [2]string{"a", ""}}, 4},
+		{finding{pair: 1, from: 2, l: 2}, 4},
+		{finding{pair: 1, from: 2, l: 2, held: [2]string{"", "a"}}, 5},
+		{finding{pair: 1, from: 2, l: 2, held: [2]string{"a", ""}}, 5},
+		{finding{pair: 0, from: 3, l: 3}, 5},
+	} {
+		s.add(c.f)
+		if len(s.found) != c.count {
+			t.Errorf("with %v %d are found, want %d", c.f, len(s.found), c.count)
+		}
+	}
+	for _, c := range []struct {
+		i, from int
+		w       string
+	}{{0, -1, ""}, {1, -1, "a"}, {3, -1, "abc"}, {1, 0, "a"}, {3, 0, "abc"}, {3, 1, "bc"}, {4, 2, "c"}, {3, 3, ""}} {
+		if w := s.word(c.i, c.from); w != c.w {
+			t.Errorf("word(%d, %d) = %q, want %q", c.i, c.from, w, c.w)
+		}
+	}
+}
+
+// TestJudgeOnTheWay: a pair that was come to before is a witness, if what is held is another, be it come to at the very first.
+func TestJudgeOnTheWay(t *testing.T) {
+	v := view(t, "a>aa/a*b\n")
+	g := newGraph(v)
+	for at, p := range g.pairs {
+		if v.Kinds.Words[p[0].kind] != "" || v.Kinds.Words[p[1].kind] != "ab" {
+			continue
+		}
+		s := search{graph: g, last: make([]int, len(g.pairs))}
+		s.found = []finding{{pair: at, from: -1}, {pair: at, from: 0, l: 0, held: [2]string{"", "a"}}}
+		w, ok := s.judge(1)
+		if want := (api.Witness{Y: "a", Z2: "ab"}); !ok || w != want {
+			t.Errorf("judge = %v, %v, want %v", w, ok, want)
+		}
+		return
+	}
+	t.Errorf("there is no such pair")
+}
+
+// TestFollow: behind the word of a kind the text ends, so its last letter is not ahead of any other.
+func TestFollow(t *testing.T) {
+	v := view(t, "a>A/b\nc>C/a\nbb>\n")
+	for k, w := range v.Kinds.Words {
+		if w != "a" {
+			continue
+		}
+		got := follow(v, "cbc", "bbc", k)
+		if want := (way{to: "cbC", round: "C", rest: "a"}); got != want {
+			t.Errorf("follow = %v, want %v", got, want)
+		}
+		return
+	}
+	t.Errorf("no kind has the word a")
+}
