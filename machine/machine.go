@@ -46,9 +46,6 @@ func (x *Machine) MaxDelay() (int, string) {
 	return most, words[where]
 }
 
-// Diff: a word that parts two machines (P9).
-func (x *Machine) Diff(y *Machine) (string, bool) { return "", false }
-
 // firstWords gives for each state the first of the shortest words that lead there.
 // States are numbered as they are met, so the words come in the order of the numbers, and the first meeting of a state is by its first word.
 func firstWords(states []state) []string {

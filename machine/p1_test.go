@@ -22,6 +22,7 @@ func callMachine(x *machine.Machine, s string, n int) {
 	x.MaxDelay()
 	x.Diff(x)
 	x.Diff(nil)
+	x.Diff(&machine.Machine{})
 	callRunner(x.Start(), s)
 	r, _ := x.Resume(n)
 	callRunner(r, s)

@@ -61,9 +61,6 @@ func (r *Runner) State() int {
 	return r.at
 }
 
-// Shown: two words that show that no more could have been said (P10).
-func (r *Runner) Shown() (string, string) { return "", "" }
-
 // Close: the text ends (P3).
 func (r *Runner) Close() (string, api.Errno) {
 	if r.isClosed() {
